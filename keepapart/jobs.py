@@ -70,7 +70,7 @@ class Job:
 
     def __len__(self):
         # The times of one run, counted from its start.
-        return len(range(self._duration))
+        return len(list(range(self._duration)))
 
 
 class Timetable:

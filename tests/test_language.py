@@ -30,6 +30,12 @@ class Files(unittest.TestCase):
                 if isinstance(node, ast.FunctionDef):
                     self.assertLessEqual(node.end_lineno - node.lineno + 1, 40, (path, node.name))
 
+    def test_lengths_are_not_those_of_ranges(self):
+        for path, text in self.files.items():
+            for node in ast.walk(ast.parse(text)):
+                if isinstance(node, ast.FunctionDef) and node.name == "__len__":
+                    self.assertNotIn("len(range(", ast.unparse(node), path)
+
     def test_imports(self):
         for path, text in self.files.items():
             for node in ast.walk(ast.parse(text)):
