@@ -10,6 +10,11 @@ from keepapart.jobs import are_jobs_apart, check_timetable, distance_within, is_
 def first_meeting(timetable, first, second):
     """The first time at which both jobs run, or None."""
     one, other = two_jobs(timetable, first, second)
+    return first_common_time(one, other)
+
+
+def first_common_time(one, other):
+    """The first time at which both of two jobs run, or None."""
     for time in range(lcm(one.period, other.period)):
         if time in one and time in other:
             return time

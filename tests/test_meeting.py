@@ -1,13 +1,12 @@
 import unittest
 from math import gcd, lcm
 
-from account import NOT_INTEGERS, NOT_NAMES, all_jobs, refusal, times_of
+from account import NOT_INTEGERS, NOT_NAMES, NOT_TABLES, all_jobs, refusal, times_of
 from keepapart.errors import BadMeeting, BadName, BadTimetable
 from keepapart.jobs import Job, Timetable, shifted
 from keepapart.meeting import are_apart, first_meeting, is_meeting, is_reason
 
 TABLE = Timetable({"mail": Job(4, 2), "sync": Job(6, start=2), "log": Job(2, start=1)})
-NO_TABLES = [None, True, 0, "mail", [], {"mail": Job(4), "sync": Job(6)}, Job(4), Timetable]
 
 
 def table_of(one, other):
@@ -147,7 +146,7 @@ class Names(unittest.TestCase):
 
     def test_the_timetable_is_checked_first(self):
         for call in self.calls:
-            for table in NO_TABLES:
+            for table in NOT_TABLES:
                 self.assertIsNone(refusal(self, BadTimetable, call, table, "mail", "sync").part)
                 self.assertIsNone(refusal(self, BadTimetable, call, table, "mail", "mail").part)
                 self.assertIsNone(refusal(self, BadTimetable, call, table, 3, None).part)
@@ -232,7 +231,7 @@ class BadMeetings(unittest.TestCase):
             self.check(self.changed(4, value))
 
     def test_the_timetable_is_checked_first(self):
-        for table in NO_TABLES:
+        for table in NOT_TABLES:
             for found in [self.good, None, (), ("sync", "mail", 0, 0, 8)]:
                 self.assertIsNone(refusal(self, BadTimetable, is_meeting, table, found).part)
 

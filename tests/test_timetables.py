@@ -2,27 +2,11 @@ import random
 import unittest
 from itertools import combinations, permutations
 
-from account import NOT_INTEGERS, NOT_NAMES, refusal, times_of
+from account import NOT_INTEGERS, NOT_NAMES, job_of, random_jobs, refusal, times_of
 from keepapart.errors import BadJob, BadName, BadTime, BadTimetable
 from keepapart.jobs import Job, Timetable
 
 CYCLE = 2000
-
-
-def job_of(made):
-    period, duration, start = made
-    return Job(period, duration, start=start)
-
-
-def random_jobs(luck, most=12):
-    """Period, duration and start of 1 to 4 jobs with an allowed product of the periods."""
-    while True:
-        periods = [luck.randint(1, most) for _ in range(luck.randint(1, 4))]
-        product = 1
-        for period in periods:
-            product *= period
-        if product <= 2000:
-            return [(period, luck.randint(1, max(1, period // 2)), luck.randrange(period)) for period in periods]
 
 
 class Making(unittest.TestCase):
